@@ -2,12 +2,20 @@
 package cairn
 
 import (
+	"math"
+	"sync"
+
 	"cairn/api"
+	"cairn/change"
 	"cairn/disk"
+	"cairn/tree"
 )
 
 // Store is a store on a disk.
-type Store struct{}
+type Store struct {
+	mutex sync.Mutex
+	disk  *disk.Disk // nil: the store is shut
+}
 
 // Key tells whether a text is a key (P3).
 func Key(key string) api.Errno {
@@ -18,10 +26,30 @@ func Key(key string) api.Errno {
 }
 
 // Open gives the store that is on a disk (P4).
-func Open(d *disk.Disk) (*Store, api.Errno) { return nil, api.OK }
+func Open(d *disk.Disk) (*Store, api.Errno) {
+	if d == nil || d.Blocks() < api.MinBlocks {
+		return nil, api.ErrSmall
+	}
+	if !change.Finish(d) {
+		return nil, api.ErrDead
+	}
+	return &Store{disk: d}, api.OK
+}
 
 // Put gives a key a new version (P6).
-func (s *Store) Put(key string, body []byte) (int, api.Errno) { return 0, api.OK }
+func (s *Store) Put(key string, body []byte) (int, api.Errno) {
+	s.mutex.Lock()
+	defer s.mutex.Unlock()
+	switch {
+	case !isKey(key):
+		return 0, api.ErrKey
+	case len(body) > api.MaxBody:
+		return 0, api.ErrLong
+	case s.disk == nil:
+		return 0, api.ErrShut
+	}
+	return s.add(key, body)
+}
 
 // Delete gives a key a marker (P7).
 func (s *Store) Delete(key string) (int, api.Errno) { return 0, api.OK }
@@ -30,10 +58,39 @@ func (s *Store) Delete(key string) (int, api.Errno) { return 0, api.OK }
 func (s *Store) Erase(key string, number int) api.Errno { return api.OK }
 
 // Get tells the newest version of a key (P9).
-func (s *Store) Get(key string) ([]byte, int, api.Errno) { return nil, 0, api.OK }
+func (s *Store) Get(key string) ([]byte, int, api.Errno) {
+	s.mutex.Lock()
+	defer s.mutex.Unlock()
+	switch {
+	case !isKey(key):
+		return nil, 0, api.ErrKey
+	case s.disk == nil:
+		return nil, 0, api.ErrShut
+	}
+	e, ok := s.first(tree.Place{Key: key, Number: math.MaxInt})
+	if !ok || e.Key != key || e.Marker {
+		return nil, 0, api.ErrNone
+	}
+	return s.body(e), e.Number, api.OK
+}
 
 // At tells a version (P9).
-func (s *Store) At(key string, number int) ([]byte, api.Errno) { return nil, api.OK }
+func (s *Store) At(key string, number int) ([]byte, api.Errno) {
+	s.mutex.Lock()
+	defer s.mutex.Unlock()
+	switch {
+	case !isKey(key):
+		return nil, api.ErrKey
+	case s.disk == nil:
+		return nil, api.ErrShut
+	}
+	place := tree.Place{Key: key, Number: number}
+	e, ok := s.first(place)
+	if !ok || e.Place != place || e.Marker {
+		return nil, api.ErrNone
+	}
+	return s.body(e), api.OK
+}
 
 // List tells a page of versions (P10).
 func (s *Store) List(prefix string, key string, number int, most int) (api.Page, api.Errno) {

@@ -1,0 +1,222 @@
+package change_test
+
+import (
+	"fmt"
+	"testing"
+
+	"cairn/api"
+	"cairn/block"
+	"cairn/change"
+	"cairn/disk"
+)
+
+// page gives a page that tells what it is.
+func page(text string) block.Page {
+	p := block.New(block.Body)
+	copy(p.Grow(len(text)), text)
+	return p
+}
+
+func text(r change.Reader, at int) string {
+	p := block.Page(r.Read(at))
+	return string(p.Items())
+}
+
+func TestChangeIsSeenInItselfAlone(t *testing.T) {
+	d := disk.New(64)
+	c := change.Begin(d)
+	c.Write(40, page("one"))
+	c.Write(41, page("two"))
+	c.Write(40, page("three"))
+	if text(c, 40) != "three" || text(c, 41) != "two" || text(c, 42) != "" {
+		t.Errorf("the change has %q, %q, %q", text(c, 40), text(c, 41), text(c, 42))
+	}
+	if text(d, 40) != "" || text(d, 41) != "" {
+		t.Error("a change that was not committed is on the disk")
+	}
+	if !c.Commit() {
+		t.Fatal("the disk died")
+	}
+	d.Fall(nil)
+	if text(d, 40) != "three" || text(d, 41) != "two" {
+		t.Errorf("the disk has %q, %q", text(d, 40), text(d, 41))
+	}
+}
+
+func TestTakeGivesEveryBlockOnce(t *testing.T) {
+	for _, blocks := range []int{64, 65, 71, 72, 500, 1000} {
+		d := disk.New(blocks)
+		seen := make(map[int]bool)
+		for i := range blocks - block.DataAt {
+			change.Begin(d).Take() // a change that is not committed keeps nothing
+			c := change.Begin(d)
+			at := c.Take()
+			if at < block.DataAt || at >= blocks || seen[at] || c.Full() {
+				t.Fatalf("block %d of %d is %d", i, blocks, at)
+			}
+			seen[at] = true
+			if !c.Commit() {
+				t.Fatal("the disk died")
+			}
+		}
+		c := change.Begin(d)
+		if at := c.Take(); at != 0 || !c.Full() {
+			t.Errorf("on a full disk of %d blocks Take gives %d", blocks, at)
+		}
+	}
+}
+
+func TestTakeTellsOneChangeDifferentBlocks(t *testing.T) {
+	c := change.Begin(disk.New(64))
+	seen := make(map[int]bool)
+	for range 64 - block.DataAt {
+		at := c.Take()
+		if at < block.DataAt || at >= 64 || seen[at] || c.Full() {
+			t.Fatalf("Take gives %d", at)
+		}
+		seen[at] = true
+	}
+	if at := c.Take(); at != 0 || !c.Full() {
+		t.Errorf("Take gives %d, Full is %v", at, c.Full())
+	}
+}
+
+func TestChangeThatTheLogDoesNotHoldIsFull(t *testing.T) {
+	c := change.Begin(disk.New(64))
+	for i := range block.LogBlocks {
+		c.Write(block.DataAt+i, page("x"))
+		c.Write(block.DataAt, page("y"))
+	}
+	if c.Full() {
+		t.Error("a change of as many blocks as the log has is full")
+	}
+	c.Write(block.DataAt+block.LogBlocks, page("x"))
+	if !c.Full() {
+		t.Error("a change of more blocks than the log has is not full")
+	}
+}
+
+// before gives a disk with a change on it, and after makes another one.
+func before(t *testing.T) *disk.Disk {
+	d := disk.New(64)
+	c := change.Begin(d)
+	for i := range 6 {
+		c.Write(40+i, page(fmt.Sprint("old", i)))
+	}
+	if !c.Commit() {
+		t.Fatal("the disk died")
+	}
+	return d
+}
+
+func after(d *disk.Disk) bool {
+	c := change.Begin(d)
+	for i := range 5 {
+		c.Write(45-i, page(fmt.Sprint("new", 5-i)))
+	}
+	return c.Commit()
+}
+
+// state tells which of the two is on a disk; "" if it is neither, wholly.
+func state(d *disk.Disk) string {
+	if text(d, 40) != "old0" {
+		return ""
+	}
+	was := text(d, 41)[:3]
+	for i := 1; i < 6; i++ {
+		if text(d, 40+i) != fmt.Sprint(was, i) {
+			return ""
+		}
+	}
+	return was
+}
+
+// keeps gives every choice among n writes.
+func keeps(n int) [][]bool {
+	var all [][]bool
+	for bits := range 1 << n {
+		keep := make([]bool, n)
+		for i := range keep {
+			keep[i] = bits>>i&1 == 1
+		}
+		all = append(all, keep)
+	}
+	return all
+}
+
+// A change that dies after any number of writes and flushes is there wholly or not at all, whatever the fall keeps, and stays as it was found, even if what finishes it dies too.
+func TestDyingLeavesNoHalves(t *testing.T) {
+	found := make(map[string]int)
+	for fuse := 0; ; fuse++ {
+		d := before(t)
+		d.Fuse(fuse)
+		if after(d) {
+			// Twice the five blocks and a head, each of these flushed.
+			if state(d) != "new" || fuse != 16 {
+				t.Errorf("with the fuse %d the change is %q", fuse, state(d))
+			}
+			break
+		}
+		for _, keep := range keeps(6) {
+			c := d.Copy()
+			c.Fall(keep)
+			found[finish(t, c)]++
+		}
+		// The same disk, brought to life without a fall.
+		c := d.Copy()
+		c.Fuse(-1)
+		found[finish(t, c)]++
+	}
+	if found["old"] == 0 || found["new"] == 0 || found[""] != 0 {
+		t.Errorf("P5: found %v", found)
+	}
+}
+
+// finish lets Finish die after every number of writes and flushes, falls in every way, and then asks what is there.
+func finish(t *testing.T, d *disk.Disk) string {
+	t.Helper()
+	whole := d.Copy()
+	if !change.Finish(whole) {
+		t.Fatal("a living disk died")
+	}
+	want := state(whole)
+	for fuse := 0; ; fuse++ {
+		c := d.Copy()
+		c.Fuse(fuse)
+		if change.Finish(c) {
+			break
+		}
+		for _, keep := range [][]bool{nil, {true}, {false, true}, {true, false, true}, {false, false, true, true, true}, {true, true, true, true, true, true}} {
+			e := c.Copy()
+			e.Fall(keep)
+			// Until a Finish has answered, a head that was not flushed may come or go.
+			if !change.Finish(e) || state(e) == "" {
+				t.Errorf("P5: behind a Finish of the fuse %d there is %q", fuse, state(e))
+			}
+			if fuse > 0 && state(e) != want {
+				t.Errorf("P5: behind a Finish of the fuse %d there is %q, not %q", fuse, state(e), want)
+			}
+		}
+	}
+	whole.Fall(nil)
+	if !change.Finish(whole) || state(whole) != want {
+		t.Errorf("P5: what was found there once is %q, not %q", state(whole), want)
+	}
+	return want
+}
+
+func TestFinishReadsLittle(t *testing.T) {
+	d := before(t)
+	d.Fuse(9)
+	if after(d) {
+		t.Fatal("the disk did not die")
+	}
+	d.Fall(nil)
+	r := d.Reads()
+	if !change.Finish(d) || state(d) != "new" {
+		t.Fatalf("there is %q", state(d))
+	}
+	if n := d.Reads() - r; n > 1+block.LogBlocks+6 || n > 2*api.MinBlocks {
+		t.Errorf("P11: Finish read %d blocks", n)
+	}
+}
