@@ -12,5 +12,5 @@ const (
 
 // LogBlocks is how many blocks a change touches at most.
 //
-// A node has at least 3 items, a root 2, so that the blocks from DataAt on hold no tree of more than 7 levels (of 8 it has 2187 blocks). A Put touches most where it splits every level but the root's: 7 nodes and 6 new ones, 3 blocks of a body, the page of the root and the map.
+// A node has at least 3 items, a root 2, so that the blocks from DataAt on hold no tree of more than 7 levels (of 8 it has 2187 blocks). A Put touches most where it splits every level but the root's: 7 nodes and 6 new ones, 3 blocks of a body, the page of the root and the map. An Erase touches fewer: a node on each level, one more where two are evened out, the page of the root and the map.
 const LogBlocks = 18

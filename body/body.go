@@ -24,15 +24,22 @@ func Write(c *change.Change, bytes []byte) int {
 	return first
 }
 
-// Walk goes over the blocks of a body, from its first one on, and gives the bytes of each.
-func Walk(r change.Reader, first int) iter.Seq[[]byte] {
-	return func(yield func([]byte) bool) {
+// Walk goes over the blocks of a body, from its first one on, and gives for each where it is and its bytes.
+func Walk(r change.Reader, first int) iter.Seq2[int, []byte] {
+	return func(yield func(int, []byte) bool) {
 		for at := first; at != 0; {
 			p := block.Page(r.Read(at))
-			if !yield(p.Items()) {
+			if !yield(at, p.Items()) {
 				return
 			}
 			at = p.Link()
 		}
+	}
+}
+
+// Free gives the blocks of a body back.
+func Free(c *change.Change, first int) {
+	for at := range Walk(c, first) {
+		c.Free(at)
 	}
 }

@@ -2,10 +2,10 @@ package body_test
 
 import (
 	"bytes"
-	"slices"
 	"testing"
 
 	"cairn/api"
+	"cairn/block"
 	"cairn/body"
 	"cairn/change"
 	"cairn/disk"
@@ -19,6 +19,14 @@ func sample(n int) []byte {
 	return b
 }
 
+func read(r change.Reader, first int) []byte {
+	var all []byte
+	for _, piece := range body.Walk(r, first) {
+		all = append(all, piece...)
+	}
+	return all
+}
+
 func TestBodyOfEveryLength(t *testing.T) {
 	for n := range api.MaxBody + 1 {
 		d := disk.New(64)
@@ -28,7 +36,7 @@ func TestBodyOfEveryLength(t *testing.T) {
 			t.Fatal("there is no room")
 		}
 		r := d.Reads()
-		got := slices.Concat(slices.Collect(body.Walk(d, first))...)
+		got := read(d, first)
 		if !bytes.Equal(got, sample(n)) {
 			t.Errorf("of %d bytes there are %d, or others", n, len(got))
 		}
@@ -49,7 +57,7 @@ func TestBodiesDoNotMix(t *testing.T) {
 		}
 	}
 	for i, first := range firsts {
-		if got := slices.Concat(slices.Collect(body.Walk(d, first))...); !bytes.Equal(got, sample(30*i)) {
+		if got := read(d, first); !bytes.Equal(got, sample(30*i)) {
 			t.Errorf("body %d is another", i)
 		}
 	}
@@ -84,5 +92,53 @@ func TestBodyWithoutRoomIsFull(t *testing.T) {
 	body.Write(c, sample(api.MaxBody))
 	if !c.Full() {
 		t.Error("the change is not full any more")
+	}
+}
+
+func TestFreedBodyLeavesNothingTaken(t *testing.T) {
+	for n := range api.MaxBody + 1 {
+		d := disk.New(64)
+		c := change.Begin(d)
+		kept := body.Write(c, sample(77))
+		first := body.Write(c, sample(n))
+		if !c.Commit() {
+			t.Fatal("the disk died")
+		}
+		taken := d.Read(block.MapAt)
+		c = change.Begin(d)
+		r := d.Reads()
+		body.Free(c, first)
+		if reads := d.Reads() - r; n > 0 && reads > 1+(n+api.Share-1)/api.Share {
+			t.Errorf("P11: to free %d bytes %d blocks are read", n, reads)
+		}
+		if c.Full() || !c.Commit() {
+			t.Fatal("there is no room")
+		}
+		if !bytes.Equal(read(d, kept), sample(77)) {
+			t.Errorf("with %d bytes others were freed", n)
+		}
+		// A body of the same length takes the same blocks, and no others.
+		c = change.Begin(d)
+		body.Write(c, sample(n))
+		if c.Read(block.MapAt) != taken {
+			t.Errorf("behind %d bytes other blocks are taken", n)
+		}
+	}
+}
+
+func TestBodyWalkTellsBlocks(t *testing.T) {
+	d := disk.New(64)
+	c := change.Begin(d)
+	first := body.Write(c, sample(api.MaxBody))
+	seen := make(map[int]bool)
+	for at, piece := range body.Walk(c, first) {
+		p := block.Page(c.Read(at))
+		if len(seen) == 0 && at != first || seen[at] || !bytes.Equal(p.Items(), piece) {
+			t.Errorf("block %d is not where the walk says", at)
+		}
+		seen[at] = true
+	}
+	if len(seen) != 3 {
+		t.Errorf("the walk tells of %d blocks", len(seen))
 	}
 }

@@ -2,7 +2,6 @@
 package cairn
 
 import (
-	"math"
 	"sync"
 
 	"cairn/api"
@@ -48,14 +47,37 @@ func (s *Store) Put(key string, body []byte) (int, api.Errno) {
 	case s.disk == nil:
 		return 0, api.ErrShut
 	}
-	return s.add(key, body)
+	return s.add(key, body, false)
 }
 
 // Delete gives a key a marker (P7).
-func (s *Store) Delete(key string) (int, api.Errno) { return 0, api.OK }
+func (s *Store) Delete(key string) (int, api.Errno) {
+	s.mutex.Lock()
+	defer s.mutex.Unlock()
+	switch {
+	case !isKey(key):
+		return 0, api.ErrKey
+	case s.disk == nil:
+		return 0, api.ErrShut
+	}
+	if _, ok := s.newest(key); !ok {
+		return 0, api.ErrNone
+	}
+	return s.add(key, nil, true)
+}
 
 // Erase takes a version away (P8).
-func (s *Store) Erase(key string, number int) api.Errno { return api.OK }
+func (s *Store) Erase(key string, number int) api.Errno {
+	s.mutex.Lock()
+	defer s.mutex.Unlock()
+	switch {
+	case !isKey(key):
+		return api.ErrKey
+	case s.disk == nil:
+		return api.ErrShut
+	}
+	return s.remove(tree.Place{Key: key, Number: number})
+}
 
 // Get tells the newest version of a key (P9).
 func (s *Store) Get(key string) ([]byte, int, api.Errno) {
@@ -67,8 +89,8 @@ func (s *Store) Get(key string) ([]byte, int, api.Errno) {
 	case s.disk == nil:
 		return nil, 0, api.ErrShut
 	}
-	e, ok := s.first(tree.Place{Key: key, Number: math.MaxInt})
-	if !ok || e.Key != key || e.Marker {
+	e, ok := s.newest(key)
+	if !ok {
 		return nil, 0, api.ErrNone
 	}
 	return s.body(e), e.Number, api.OK
@@ -94,5 +116,15 @@ func (s *Store) At(key string, number int) ([]byte, api.Errno) {
 
 // List tells a page of versions (P10).
 func (s *Store) List(prefix string, key string, number int, most int) (api.Page, api.Errno) {
-	return api.Page{}, api.OK
+	s.mutex.Lock()
+	defer s.mutex.Unlock()
+	switch {
+	case prefix != "" && !isKey(prefix), key != "" && !isKey(key):
+		return api.Page{}, api.ErrKey
+	case number < 0, most < 1, most > api.MaxPage:
+		return api.Page{}, api.ErrArg
+	case s.disk == nil:
+		return api.Page{}, api.ErrShut
+	}
+	return s.page(prefix, start(prefix, key, number), most), api.OK
 }

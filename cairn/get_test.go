@@ -5,10 +5,6 @@ import (
 	"testing"
 
 	"cairn/api"
-	"cairn/block"
-	"cairn/change"
-	"cairn/disk"
-	"cairn/tree"
 )
 
 func TestGetNewest(t *testing.T) {
@@ -61,31 +57,17 @@ func TestAtNumbers(t *testing.T) {
 	m.check()
 }
 
-// mark lays a marker on a disk, past the calls.
-func mark(t *testing.T, d *disk.Disk, key string, number int) {
-	t.Helper()
-	c := change.Begin(d)
-	p := block.Page(c.Read(block.RootAt))
-	p.SetLink(tree.Insert(c, p.Link(), tree.Entry{Place: tree.Place{Key: key, Number: number}, Marker: true}))
-	block.SetNumber(p.Item(0), number)
-	c.Write(block.RootAt, p)
-	if !c.Commit() {
-		t.Fatal("the disk died")
-	}
-}
-
 func TestMarkersAreNothing(t *testing.T) {
 	m := newModel(t, 64)
 	m.put("a", []byte("one"))
 	m.put("b", []byte("two"))
-	mark(t, m.d, "b", 3)
+	m.delete("b")
 	m.get("b", nil, 0, api.ErrNone)
 	m.at("b", 3, nil, api.ErrNone)
 	m.at("b", 2, []byte("two"), api.OK)
 	m.get("a", []byte("one"), 1, api.OK)
-	if n, e := m.s.Put("b", []byte("four")); n != 4 || e != api.OK {
-		t.Errorf("P6: Put behind a marker is %d, %d", n, e)
-	}
+	m.put("b", []byte("four"))
 	m.get("b", []byte("four"), 4, api.OK)
 	m.at("b", 3, nil, api.ErrNone)
+	m.check()
 }

@@ -76,8 +76,7 @@ func TestOpenFindsWhatWasPut(t *testing.T) {
 func TestOpenOfCopiesGoApart(t *testing.T) {
 	m := newModel(t, 100)
 	m.put("a", []byte("first"))
-	other := &model{t: t, versions: m.versions[:1:1], weight: m.weight}
-	other.open(m.d.Copy())
+	other := m.copied()
 	m.put("a", []byte("one way"))
 	other.put("b", []byte("the other"))
 	m.check()

@@ -8,7 +8,6 @@ import (
 	"testing"
 
 	"cairn/api"
-	"cairn/cairn"
 	"cairn/disk"
 )
 
@@ -179,62 +178,6 @@ func TestPutBySeveral(t *testing.T) {
 			if b, e := s.At(fmt.Sprint(k), n); !bytes.Equal(b, filled(i*20, k*100+i)) || e != api.OK {
 				t.Errorf("P9: At(%d, %d) is %s, %d", k, n, show(b), e)
 			}
-		}
-	}
-}
-
-// A disk that dies shuts the store; what the next one finds is the Put, or nothing of it.
-func TestPutOnDyingDisk(t *testing.T) {
-	found := make(map[int]int)
-	for fuse := 0; ; fuse++ {
-		m := newModel(t, 64)
-		for i := range 7 {
-			m.put("b", filled(i*40, i))
-		}
-		m.d.Fuse(fuse)
-		n, e := m.s.Put("b", filled(api.MaxBody, 8))
-		if e == api.OK {
-			break
-		}
-		if n != 0 || e != api.ErrDead {
-			t.Fatalf("P5: Put on a dying disk is %d, %d", n, e)
-		}
-		isShut(t, m.s)
-		m.d.Fall([]bool{true, fuse%2 == 0, fuse%3 == 0, true})
-		isShut(t, m.s)
-		m.open(m.d)
-		if _, n, _ := m.s.Get("b"); n == 8 {
-			m.versions = append(m.versions, version{"b", 8, filled(api.MaxBody, 8)})
-		}
-		found[len(m.versions)]++
-		m.check()
-		m.put("c", []byte("next"))
-		m.open(m.d.Copy())
-		m.check()
-	}
-	if found[7] == 0 || found[8] == 0 {
-		t.Errorf("P5: so many versions were found so many times: %v", found)
-	}
-}
-
-// isShut asks a store that is shut for everything: errors that come ahead of ErrShut still do.
-func isShut(t *testing.T, s *cairn.Store) {
-	t.Helper()
-	for _, c := range []struct {
-		key  string
-		size int
-		want api.Errno
-	}{{"b", 1, api.ErrShut}, {"B", 1, api.ErrKey}, {"b", 301, api.ErrLong}, {"B", 301, api.ErrKey}} {
-		if n, e := s.Put(c.key, make([]byte, c.size)); n != 0 || e != c.want {
-			t.Errorf("P5: Put(%q, %d bytes) is %d, %d, not %d", c.key, c.size, n, e, c.want)
-		}
-	}
-	for key, want := range map[string]api.Errno{"b": api.ErrShut, "none": api.ErrShut, "B": api.ErrKey, "": api.ErrKey} {
-		if b, n, e := s.Get(key); b != nil || n != 0 || e != want {
-			t.Errorf("P5: Get(%q) is %q, %d, %d, not %d", key, b, n, e, want)
-		}
-		if b, e := s.At(key, 1); b != nil || e != want {
-			t.Errorf("P5: At(%q, 1) is %q, %d, not %d", key, b, e, want)
 		}
 	}
 }

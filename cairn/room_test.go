@@ -106,9 +106,10 @@ func TestRoomRunsOut(t *testing.T) {
 					continue
 				}
 				refused++
-				m.getRefused(key(len(m.versions)))
+				m.checkGet(key(len(m.versions)))
+				m.at(key(len(m.versions)), m.last+1, nil, api.ErrNone)
 				m.open(m.d.Copy())
-				m.getRefused(key(len(m.versions)))
+				m.checkGet(key(len(m.versions)))
 				size -= 50
 			}
 			if refused == 0 || t.Failed() {
@@ -134,15 +135,145 @@ func TestRoomForNoBytes(t *testing.T) {
 	}
 }
 
-// getRefused asks for a key whose Put was refused: it is as it was.
-func (m *model) getRefused(key string) {
-	m.t.Helper()
-	body, number, want := []byte(nil), 0, api.ErrNone
-	for _, v := range m.versions {
-		if v.key == key {
-			body, number, want = v.body, v.number, api.OK
+// A disk that is filled and emptied again and again takes as much as a new one, and never less than the document says.
+func TestRoomComesBack(t *testing.T) {
+	for name, next := range removals(rand.New(rand.NewSource(7))) {
+		for i, blocks := range []int{64, 65, 97, 230} {
+			m := newModel(t, blocks)
+			taken := -1
+			for round := range 4 {
+				r := rand.New(rand.NewSource(int64(i)))
+				for m.put(fmt.Sprint(r.Intn(40)), filled(r.Intn(api.MaxBody+1), r.Int())) {
+				}
+				if n := len(m.versions); round == 0 {
+					taken = n
+				} else if n != taken {
+					t.Fatalf("P11: erased %s, %d blocks take %d versions, not %d", name, blocks, n, taken)
+				}
+				m.check()
+				m.checkCopy()
+				for len(m.versions) > 0 {
+					m.erase(next(m))
+				}
+				m.check()
+			}
 		}
 	}
-	m.get(key, body, number, want)
-	m.at(key, len(m.versions)+1, nil, api.ErrNone)
+}
+
+// With as much there as the document has room for, versions come and go, in many orders: none is refused.
+func TestRoomToTheBrim(t *testing.T) {
+	for name, next := range removals(rand.New(rand.NewSource(11))) {
+		for sizeName, size := range sizes() {
+			r := rand.New(rand.NewSource(int64(len(name))))
+			m := newModel(t, api.MinBlocks+r.Intn(300))
+			for i := range 150 {
+				for m.mustFit(size(i)) {
+					m.put(fmt.Sprint(r.Intn(30)), filled(size(i), i))
+				}
+				for m.mustFit(0) {
+					m.put(fmt.Sprint(r.Intn(30)), nil)
+				}
+				for range min(1+r.Intn(8), len(m.versions)) {
+					m.erase(next(m))
+				}
+				if key := fmt.Sprint(r.Intn(30)); m.mustFit(0) && m.something(key) {
+					m.delete(key)
+				}
+			}
+			m.check()
+			m.checkCopy()
+			if t.Failed() {
+				t.Fatalf("erased %s, bodies %s, %d blocks", name, sizeName, m.d.Blocks())
+			}
+		}
+	}
+}
+
+// something tells whether a key has a newest version that is no marker.
+func (m *model) something(key string) bool {
+	v, ok := m.newest(key)
+	return ok && !v.marker
+}
+
+// On a disk that takes nothing more an Erase has room, whatever the tree looks like; and reads no more than it may.
+func TestEraseOnFullDisk(t *testing.T) {
+	orders := removals(rand.New(rand.NewSource(12)))
+	for keyName, key := range keys(13) {
+		whole := newModel(t, api.MaxBlocks)
+		for whole.put(key(len(whole.versions)%5000), nil) {
+		}
+		for _, name := range []string{"oldest", "newest", "random"} {
+			m := whole.copied()
+			for len(m.versions) > 0 {
+				m.erase(orders[name](m))
+				if len(m.versions)%900 == 0 {
+					m.check()
+				}
+			}
+			if t.Failed() {
+				t.Fatalf("erased %s, keys %s", name, keyName)
+			}
+			m.put("again", nil)
+			m.check()
+		}
+	}
+}
+
+// A tree that was thinned out to its least has still room for what the document says, of the greatest bodies too.
+func TestRoomInThinnedTree(t *testing.T) {
+	for _, blocks := range []int{64, 65, 66, 67, 100, 333, 1000} {
+		for every := 2; every < 9; every++ {
+			m := newModel(t, blocks)
+			for i := 0; m.put(fmt.Sprintf("%05d", i), nil); i++ {
+			}
+			for i := 0; i < len(m.versions); i++ {
+				for range min(every, len(m.versions)-i) {
+					if len(m.versions) > 1 {
+						m.erase(i)
+					}
+				}
+			}
+			for i := 0; m.mustFit(api.MaxBody); i++ {
+				m.put(fmt.Sprintf("%05d", i*37), filled(api.MaxBody, i))
+			}
+			for m.mustFit(0) {
+				m.put("0", nil)
+			}
+			m.check()
+			m.checkCopy()
+		}
+	}
+}
+
+// Puts, Deletes, Erases and openings as they come, against the model.
+func TestChangesDrawn(t *testing.T) {
+	for seed := range int64(60) {
+		r := rand.New(rand.NewSource(seed))
+		m := newModel(t, api.MinBlocks+r.Intn(1+r.Intn(api.MaxBlocks-api.MinBlocks)))
+		rising := true
+		for range 400 {
+			key := drawnKey(r)
+			switch n := r.Intn(10); {
+			case n == 0 && m.something(key):
+				m.delete(key)
+			case n == 0:
+				m.deleteNone(key, api.ErrNone)
+			case n == 1:
+				m.open(m.d.Copy())
+			case (n < 3 || !rising) && len(m.versions) > 0:
+				m.erase(r.Intn(len(m.versions)))
+			default:
+				rising = m.put(key, filled(r.Intn(api.MaxBody+1), r.Int()))
+			}
+			if len(m.versions) == 0 || r.Intn(50) == 0 {
+				rising = !rising
+			}
+			if r.Intn(20) == 0 {
+				m.check()
+			}
+		}
+		m.check()
+		m.checkCopy()
+	}
 }

@@ -81,6 +81,81 @@ func TestTakeTellsOneChangeDifferentBlocks(t *testing.T) {
 	}
 }
 
+func TestFreedBlocksAreTakenAgain(t *testing.T) {
+	for _, blocks := range []int{64, 71, 72, 1000} {
+		d := disk.New(blocks)
+		c := change.Begin(d)
+		for range blocks - block.DataAt {
+			c.Take()
+		}
+		if !c.Commit() {
+			t.Fatal("the disk died")
+		}
+		for at := block.DataAt; at < blocks; at++ {
+			change.Begin(d).Free(at) // a change that is not committed frees nothing
+			if change.Begin(d).Take() != 0 {
+				t.Fatalf("of %d blocks one is free", blocks)
+			}
+			c := change.Begin(d)
+			c.Free(at)
+			if !c.Commit() {
+				t.Fatal("the disk died")
+			}
+			c = change.Begin(d)
+			if got := c.Take(); got != at || c.Take() != 0 {
+				t.Fatalf("of %d blocks %d was freed, Take gives %d", blocks, at, got)
+			}
+			c = change.Begin(d)
+			c.Take()
+			if !c.Commit() {
+				t.Fatal("the disk died")
+			}
+		}
+	}
+}
+
+func TestFreedInTheSameChange(t *testing.T) {
+	d := disk.New(64)
+	c := change.Begin(d)
+	a, b := c.Take(), c.Take()
+	c.Write(a, page("a"))
+	c.Write(b, page("b"))
+	c.Free(a)
+	if text(c, a) != "" || text(c, b) != "b" {
+		t.Errorf("behind Free there are %q and %q", text(c, a), text(c, b))
+	}
+	if got := c.Take(); got != a {
+		t.Errorf("Take gives %d, not %d, which was freed", got, a)
+	}
+	c.Write(a, page("again"))
+	if c.Full() || !c.Commit() {
+		t.Fatal("there is no room")
+	}
+	if text(d, a) != "again" || text(d, b) != "b" {
+		t.Errorf("the disk has %q and %q", text(d, a), text(d, b))
+	}
+}
+
+// What was to be written into blocks that were freed takes up no room in the log.
+func TestFreedBlocksAreNotLogged(t *testing.T) {
+	d := disk.New(1000)
+	c := change.Begin(d)
+	for range 10 * block.LogBlocks {
+		at := c.Take()
+		c.Write(at, page("x"))
+		c.Free(at)
+	}
+	if c.Full() {
+		t.Error("a change of the map alone is full")
+	}
+	if !c.Commit() {
+		t.Error("the disk died")
+	}
+	if got := change.Begin(d).Take(); got != block.DataAt {
+		t.Errorf("Take gives %d", got)
+	}
+}
+
 func TestChangeThatTheLogDoesNotHoldIsFull(t *testing.T) {
 	c := change.Begin(disk.New(64))
 	for i := range block.LogBlocks {

@@ -39,12 +39,19 @@ func insert(c *change.Change, at int, e Entry) (Entry, bool) {
 	return n.split(c, at), true
 }
 
-// split keeps one half of a node where it was, and plants the other as its sibling.
+// split keeps one half of a node where it was, and the other as its new sibling.
 func (n node) split(c *change.Change, at int) Entry {
+	sibling := c.Take()
+	return Entry{Place: n.halve(c, at, sibling), At: sibling}
+}
+
+// halve keeps the halves of a node in two blocks, and tells where the second one begins.
+func (n node) halve(c *change.Change, leftAt, rightAt int) Place {
 	half := len(n.entries) / 2
 	left, right := node{n.kind, n.entries[:half]}, node{n.kind, n.entries[half:]}
-	left.save(c, at)
-	return Entry{Place: right.entries[0].Place, At: plant(c, right)}
+	left.save(c, leftAt)
+	right.save(c, rightAt)
+	return right.entries[0].Place
 }
 
 // plant keeps a new node, and tells where.
