@@ -1,126 +1,260 @@
 package cairn_test
 
 import (
-	"fmt"
 	"math/rand"
 	"reflect"
-	"slices"
 	"testing"
 
 	"cairn/api"
+	"cairn/block"
 	"cairn/cairn"
+	"cairn/disk"
 )
 
-// full gives a store with versions of three keys, the newest of one of which is a marker.
-func full(t *testing.T) *model {
-	m := newModel(t, 200)
-	for i := range 21 {
-		m.put([]string{"b", "c", "a"}[i%3], filled(i*14, i))
-	}
-	m.delete("c")
-	return m
+// way is how a disk that died comes to life again.
+type way func(d *disk.Disk)
+
+// fall is the power going; of what was not flushed some lasts.
+func fall(keep ...bool) way {
+	return func(d *disk.Disk) { d.Fall(keep) }
 }
 
-// changeOf is a change, as a call and as what the model says of it.
-type changeOf struct {
-	call  func(s *cairn.Store) (int, api.Errno)
-	model func(m *model)
+// revive: the disk did not fall, what was not flushed may yet be lost.
+func revive(d *disk.Disk) { d.Fuse(-1) }
+
+// manyWrites are more than may be unflushed at a time. No call does twice as many writes and flushes.
+const manyWrites = 2 * block.LogBlocks
+
+// lasting gives a choice among what was not flushed.
+func lasting(lasts func(i int) bool) []bool {
+	keep := make([]bool, manyWrites)
+	for i := range keep {
+		keep[i] = lasts(i)
+	}
+	return keep
 }
 
-func changes() map[string]changeOf {
-	all := map[string]changeOf{
-		"Put": {
-			func(s *cairn.Store) (int, api.Errno) { return s.Put("b", filled(api.MaxBody, 8)) },
-			func(m *model) { m.put("b", filled(api.MaxBody, 8)) },
-		},
-		"Delete": {
-			func(s *cairn.Store) (int, api.Errno) { return s.Delete("b") },
-			func(m *model) { m.delete("b") },
-		},
+// drawnFall draws at each fall a choice in which one of so many lasts.
+func drawnFall(r *rand.Rand, oneOf int) way {
+	return func(d *disk.Disk) { d.Fall(lasting(func(int) bool { return r.Intn(oneOf) == 0 })) }
+}
+
+// ways: nothing lasts, all of it, the one or the other half, some; or there is no fall.
+func ways(r *rand.Rand) []way {
+	return []way{
+		fall(),
+		fall(lasting(func(int) bool { return true })...),
+		fall(lasting(func(i int) bool { return i%2 == 0 })...),
+		fall(lasting(func(i int) bool { return i%2 == 1 })...),
+		drawnFall(r, 2),
+		drawnFall(r, 2),
+		drawnFall(r, 4),
+		revive,
 	}
-	for i := range 22 {
-		all[fmt.Sprint("Erase", i)] = changeOf{
-			func(s *cairn.Store) (int, api.Errno) {
-				if i == 21 {
-					return 0, s.Erase("c", 22)
-				}
-				return 0, s.Erase([]string{"b", "c", "a"}[i%3], i+1)
-			},
-			func(m *model) { m.erase(i) },
-		}
+}
+
+// singleWays: one of the writes lasts alone, or is lost alone.
+func singleWays() []way {
+	var all []way
+	for one := range block.LogBlocks {
+		all = append(all, fall(lasting(func(i int) bool { return i == one })...), fall(lasting(func(i int) bool { return i != one })...))
 	}
 	return all
 }
 
-// A disk that dies in a change shuts the store; the next one finds the change, or nothing of it, and so do all that are opened later.
-func TestChangeOnDyingDisk(t *testing.T) {
-	r := rand.New(rand.NewSource(5))
-	for name, c := range changes() {
-		before := full(t)
-		after := before.copied()
-		c.model(after)
-		found := make(map[*model]int)
-		for fuse := 0; ; fuse++ {
-			m := before.copied()
-			m.d.Fuse(fuse)
-			n, e := c.call(m.s)
-			if e == api.OK {
-				m.d.Fuse(-1)
-				after.goOn(m)
-				break
-			}
-			if n != 0 || e != api.ErrDead {
-				t.Fatalf("P5: %s with the fuse %d is %d, %d", name, fuse, n, e)
-			}
-			isShut(t, m.s)
-			for range 4 {
-				fallen := &model{t: t, d: m.d.Copy()}
-				fallen.d.Fall([]bool{r.Intn(2) == 0, r.Intn(2) == 0, r.Intn(2) == 0, r.Intn(2) == 0, r.Intn(2) == 0, r.Intn(2) == 0})
-				fallen.open(fallen.d)
-				is := before
-				if slices.Equal(told(fallen.s), after.sorted()) {
-					is = after
-				}
-				found[is]++
-				is.goOn(fallen)
-			}
-			m.d.Fall(nil)
-			isShut(t, m.s)
+// dies makes a change on a disk that does so many more writes and flushes, and tells whether it died. It stays dead.
+func (m *model) dies(c changeOf, fuse int) bool {
+	m.t.Helper()
+	m.d.Fuse(fuse)
+	n, e := c.call(m.s)
+	switch {
+	case e == api.ErrDead && n == 0 && mayDie(fuse):
+		m.dead++
+		return true
+	case c.number == 0:
+		m.added(c.String(), version{key: c.key, number: n, marker: c.marker, body: c.body}, e)
+	case e != api.OK:
+		m.t.Fatalf("P8: %v with the fuse %d is %d", c, fuse, e)
+	default:
+		m.has(c.behind(m.versions, 0))
+	}
+	return false
+}
+
+// mayDie tells whether a disk with such a fuse dies within a call, so that no test tries further ones without end.
+func mayDie(fuse int) bool { return 0 <= fuse && fuse < 2*manyWrites }
+
+// has makes these the versions that must be there.
+func (m *model) has(versions []version) {
+	m.versions, m.weight = versions, 0
+	for _, v := range versions {
+		m.weight += weigh(len(v.body))
+	}
+}
+
+// find opens the disk and goes on with what is there. It tells whether the change that died last is.
+func (m *model) find(c changeOf) bool {
+	m.t.Helper()
+	m.open(m.d)
+	return m.found(c)
+}
+
+// found goes on with what a store that was opened behind a change tells: all that was answered for and, where the change died, all or nothing of it.
+func (m *model) found(c changeOf) bool {
+	m.t.Helper()
+	got := contents(m.t, m.s)
+	if same(got, inOrder(m.versions)) {
+		return false
+	}
+	for number := m.greatest() + 1; number <= m.last+m.dead; number++ {
+		if now := c.behind(m.versions, number); same(got, inOrder(now)) {
+			m.has(now)
+			return true
 		}
-		if found[before] == 0 || found[after] == 0 {
-			t.Errorf("P5: %s was found %d times, and not found %d times", name, found[after], found[before])
+	}
+	m.t.Fatalf("P5: behind %v, and %d changes that died, there is neither all nor nothing of it: %d versions, %d ahead of it", c, m.dead, len(got), len(m.versions))
+	return false
+}
+
+// still opens the disk: there is what there was, and nothing else.
+func (m *model) still(when string) {
+	m.t.Helper()
+	m.open(m.d)
+	if !same(contents(m.t, m.s), inOrder(m.versions)) {
+		m.t.Fatalf("P5: behind %s there is something else than before", when)
+	}
+}
+
+// stays checks that what was found is found again, behind openings that die, falls, and openings without a fall, and that changes go on behind it.
+func (m *model) stays(r *rand.Rand) {
+	m.t.Helper()
+	for fuse := 0; m.openDies(fuse); fuse++ {
+		drawnFall(r, 2)(m.d)
+		m.still("an opening that died, and a fall")
+	}
+	revive(m.d)
+	m.open(m.d)
+	m.put("next", []byte("one"))
+	drawnFall(r, 2)(m.d)
+	m.still("openings, a Put, and a fall")
+}
+
+// openDies opens a store on a disk that does so many more writes and flushes, and tells whether it died. It stays dead, or as near to it as it is.
+func (m *model) openDies(fuse int) bool {
+	m.t.Helper()
+	m.d.Fuse(fuse)
+	reads := m.d.Reads()
+	s, e := cairn.Open(m.d)
+	if (s == nil) != (e == api.ErrDead) || s != nil && e != api.OK || s == nil && !mayDie(fuse) {
+		m.t.Fatalf("P4: Open with the fuse %d is %v, %d", fuse, s, e)
+	}
+	if n := m.d.Reads() - reads; n > 2*m.d.Blocks() {
+		m.t.Errorf("P11: Open with the fuse %d read %d blocks", fuse, n)
+	}
+	m.s = s
+	return s == nil
+}
+
+// everyDeath makes a change on a shape with every fuse from 0 on, up to the one with which it does not die; that one is told, too.
+func (s shape) everyDeath(t *testing.T, c changeOf, tell func(m *model)) {
+	t.Helper()
+	for fuse := 0; ; fuse++ {
+		m := s.make(t)
+		died := m.dies(c, fuse)
+		if died {
+			isShut(t, m.s)
+		} else if !same(contents(t, m.s), inOrder(m.versions)) {
+			t.Fatalf("P6 to P8: %v with the fuse %d is answered for, and not there", c, fuse)
+		}
+		tell(m)
+		if !died {
+			return
 		}
 	}
 }
 
-// goOn checks that a store has what this model has, and goes on having it.
-func (m *model) goOn(on *model) {
-	m.t.Helper()
-	on.versions, on.last, on.weight = slices.Clone(m.versions), m.last, m.weight
-	on.check()
-	on.d.Fall(nil)
-	on.open(on.d)
-	on.check()
-	on.put("next", []byte("one"))
-	on.checkCopy()
+// A disk that dies in a change shuts the store; the next one finds the change, or nothing of it, and so do all that are opened later.
+func TestChangeDies(t *testing.T) {
+	for name, s := range shapes() {
+		t.Run(name, func(t *testing.T) {
+			t.Parallel()
+			r := rand.New(rand.NewSource(5))
+			for _, c := range changesOn(s.make(t)) {
+				s.dieInEveryWay(t, c, r, ways(r))
+			}
+		})
+	}
 }
 
-// told gives all versions of a store.
-func told(s *cairn.Store) []api.Version {
-	var all []api.Version
-	for key, number := "", 0; ; {
-		p, _ := s.List("", key, number, api.MaxPage)
-		all = append(all, p.Versions...)
-		if !p.More {
-			return all
+// Of what was not flushed, one write lasts alone, or is lost alone.
+func TestChangeDiesAndOneWriteLasts(t *testing.T) {
+	for _, c := range longChanges() {
+		t.Run(c.shape, func(t *testing.T) {
+			t.Parallel()
+			shapes()[c.shape].dieInEveryWay(t, c.changeOf, rand.New(rand.NewSource(6)), singleWays())
+		})
+	}
+}
+
+func (s shape) dieInEveryWay(t *testing.T, c changeOf, r *rand.Rand, ways []way) {
+	t.Helper()
+	died, found := 0, 0
+	s.everyDeath(t, c, func(m *model) {
+		for _, live := range ways {
+			f := m.fork()
+			live(f.d)
+			if f.find(c) {
+				found++
+			}
+			died += f.dead
+			f.stays(r)
 		}
-		key, number = all[len(all)-1].Key, all[len(all)-1].Number
+	})
+	// Where there is no room, nothing dies. Else the change is there from some moment on, and not ahead of it.
+	if died > 0 && (found == 0 || found == died) {
+		t.Errorf("P5: %v died %d times and was found %d times", c, died, found)
+	}
+}
+
+// The disk falls, and lives: a store that is shut is so still.
+func TestShutStaysShut(t *testing.T) {
+	for _, c := range longChanges() {
+		for _, live := range ways(rand.New(rand.NewSource(7))) {
+			m := shapes()[c.shape].make(t)
+			if !m.dies(c.changeOf, 3) {
+				t.Fatalf("P5: %v needs no more than 3 writes", c)
+			}
+			isShut(t, m.s)
+			live(m.d)
+			isShut(t, m.s)
+		}
+	}
+}
+
+// The document's example of dying.
+func TestDyingExample(t *testing.T) {
+	for _, live := range ways(rand.New(rand.NewSource(8))) {
+		m := newModel(t, api.MinBlocks)
+		m.put("b", []byte("one"))
+		c := changeOf{key: "b", body: []byte("two")}
+		if !m.dies(c, 0) {
+			t.Fatal("P5: Put on a dead disk is answered for")
+		}
+		if b, n, e := m.s.Get("b"); b != nil || n != 0 || e != api.ErrShut {
+			t.Errorf("P5: Get is %q, %d, %d", b, n, e)
+		}
+		live(m.d)
+		m.find(c)
+		m.checkGet("b")
+		m.d.Fall(nil)
+		m.still("the next fall")
+		m.checkGet("b")
 	}
 }
 
 // What does not write does not notice that the disk is dead, and shuts nothing.
 func TestRefusalsOnDeadDisk(t *testing.T) {
-	m := full(t)
+	m := shapes()["some"].make(t)
 	m.d.Fuse(0)
 	m.deleteNone("B", api.ErrKey)
 	m.deleteNone("c", api.ErrNone)

@@ -32,6 +32,7 @@ type model struct {
 	s        *cairn.Store
 	versions []version // by their numbers
 	last     int       // the greatest number that was ever told
+	dead     int       // how many changes answered ErrDead since that one was told
 	weight   int
 }
 
@@ -64,9 +65,16 @@ func (m *model) open(d *disk.Disk) {
 // copied gives a model of a copy of the disk, with a store of its own.
 func (m *model) copied() *model {
 	m.t.Helper()
-	c := &model{t: m.t, versions: slices.Clone(m.versions), last: m.last, weight: m.weight}
-	c.open(m.d.Copy())
+	c := m.fork()
+	c.open(c.d)
 	return c
+}
+
+// fork gives a model of a copy of the disk as it is, on which no store is opened yet.
+func (m *model) fork() *model {
+	f := *m
+	f.d, f.s, f.versions = m.d.Copy(), nil, slices.Clone(m.versions)
+	return &f
 }
 
 // counted tells how many blocks a call reads.
@@ -115,13 +123,21 @@ func (m *model) added(name string, v version, e api.Errno) bool {
 	if e == api.ErrSpace && v.number == 0 && !m.mustFit(len(v.body)) {
 		return false
 	}
-	if v.number != m.last+1 || e != api.OK {
-		m.t.Fatalf("%s(%q, %d bytes) is %d, %d, not %d (weight %d, %d blocks)", name, v.key, len(v.body), v.number, e, m.last+1, m.weight, m.d.Blocks())
+	if v.number <= m.greatest() || v.number > m.last+1+m.dead || e != api.OK {
+		m.t.Fatalf("%s(%q, %d bytes) is %d, %d: the last number was %d, there is %d, %d changes died since (weight %d, %d blocks)", name, v.key, len(v.body), v.number, e, m.last, m.greatest(), m.dead, m.weight, m.d.Blocks())
 	}
-	m.last++
+	m.last, m.dead = v.number, 0
 	m.versions = append(m.versions, v)
 	m.weight += weigh(len(v.body))
 	return true
+}
+
+// greatest gives the greatest number that was told, or that a version has that was found behind a change that died.
+func (m *model) greatest() int {
+	if len(m.versions) == 0 {
+		return m.last
+	}
+	return max(m.last, m.versions[len(m.versions)-1].number)
 }
 
 // erase erases the i-th of the versions.
@@ -176,7 +192,7 @@ func (m *model) check() {
 	}
 	for key, v := range newest {
 		m.checkNewest(v)
-		m.at(key, m.last+1, nil, api.ErrNone)
+		m.at(key, m.greatest()+1, nil, api.ErrNone)
 		m.at(key, 0, nil, api.ErrNone)
 	}
 	for i, v := range m.versions {
@@ -243,15 +259,21 @@ func (m *model) get(key string, body []byte, number int, want api.Errno) {
 	}
 }
 
+// inOrder gives versions in the document's order.
+func inOrder(versions []version) []version {
+	all := slices.Clone(versions)
+	slices.SortFunc(all, func(a, b version) int {
+		return cmp.Or(slices.Compare([]byte(a.key), []byte(b.key)), b.number-a.number)
+	})
+	return all
+}
+
 // sorted gives the versions in the document's order, as a list tells them.
 func (m *model) sorted() []api.Version {
 	var all []api.Version
-	for _, v := range m.versions {
+	for _, v := range inOrder(m.versions) {
 		all = append(all, api.Version{Key: v.key, Number: v.number, Marker: v.marker, Size: len(v.body)})
 	}
-	slices.SortFunc(all, func(a, b api.Version) int {
-		return cmp.Or(slices.Compare([]byte(a.Key), []byte(b.Key)), b.Number-a.Number)
-	})
 	return all
 }
 

@@ -84,18 +84,3 @@ func TestOpenOfCopiesGoApart(t *testing.T) {
 	m.get("b", nil, 0, api.ErrNone)
 	other.get("a", []byte("first"), 1, api.OK)
 }
-
-// A disk that is dead: Open may find nothing to write, but a Put finds out.
-func TestOpenOfDeadDisk(t *testing.T) {
-	d := disk.New(api.MinBlocks)
-	d.Fuse(0)
-	s, e := cairn.Open(d)
-	if s != nil && e == api.OK {
-		_, e = s.Put("a", nil)
-	} else if s != nil {
-		t.Errorf("P1: Open is %v beside %d", s, e)
-	}
-	if e != api.ErrDead {
-		t.Errorf("P4: a dead disk answers %d", e)
-	}
-}

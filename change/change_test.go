@@ -2,6 +2,8 @@ package change_test
 
 import (
 	"fmt"
+	"math/rand"
+	"strconv"
 	"testing"
 
 	"cairn/api"
@@ -278,6 +280,61 @@ func finish(t *testing.T, d *disk.Disk) string {
 		t.Errorf("P5: what was found there once is %q, not %q", state(whole), want)
 	}
 	return want
+}
+
+// greatest makes a change of as many blocks as the log has: the numbers from 0 on, or others.
+func greatest(d *disk.Disk, from int) bool {
+	c := change.Begin(d)
+	for i := range block.LogBlocks {
+		c.Write(block.DataAt+i*7%block.LogBlocks, page(fmt.Sprint(from+i)))
+	}
+	return c.Commit()
+}
+
+// numbers tells the number from which on a disk has such a change; false: it has none, wholly.
+func numbers(d *disk.Disk) (int, bool) {
+	from, _ := strconv.Atoi(text(d, block.DataAt))
+	for i := range block.LogBlocks {
+		if text(d, block.DataAt+i*7%block.LogBlocks) != fmt.Sprint(from+i) {
+			return 0, false
+		}
+	}
+	return from, true
+}
+
+// Changes that fill the log die one behind the other, and so does what finishes them: each is there wholly or not at all, and stays as it was found.
+func TestDyingOfTheGreatestChanges(t *testing.T) {
+	r := rand.New(rand.NewSource(3))
+	live := func(d *disk.Disk) {
+		keep := make([]bool, 3*block.LogBlocks)
+		for i := range keep {
+			keep[i] = r.Intn(2) == 0
+		}
+		if r.Intn(4) > 0 {
+			d.Fall(keep)
+		}
+		d.Fuse(-1)
+	}
+	for fuse := range 3000 {
+		d := disk.New(api.MinBlocks)
+		if !greatest(d, 0) {
+			t.Fatal("the disk died")
+		}
+		is := 0
+		for next := 100; next < 500; next += 100 {
+			d.Fuse((fuse + next) % (2*block.LogBlocks + 7))
+			ok := greatest(d, next)
+			live(d)
+			for d.Fuse(r.Intn(3 * block.LogBlocks)); !change.Finish(d); d.Fuse(r.Intn(3 * block.LogBlocks)) {
+				live(d)
+			}
+			got, whole := numbers(d)
+			if !whole || got != next && (ok || got != is) {
+				t.Fatalf("P5: behind %d and %d (answered for: %v) there is %d, wholly: %v", is, next, ok, got, whole)
+			}
+			is = got
+		}
+	}
 }
 
 func TestFinishReadsLittle(t *testing.T) {
